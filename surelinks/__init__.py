@@ -1,0 +1,1 @@
+"""Reliable links over unreliable wires: see surelinks.links.answers."""
