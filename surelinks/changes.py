@@ -1,5 +1,6 @@
-"""The calls 0 to 9, which change the sites and the wires. Each answers 0 and its fields, or an error code alone."""
+"""The calls 0 to 9 and 17, about changes of sites and wires. Each answers 0 and its fields, or an error code alone."""
 
+from surelinks.exchanges import perform_exchange
 from surelinks.limits import FEWEST_SITES, MOST_DUPLICATED, MOST_MESSAGES, MOST_SITES, is_octet, is_payload
 from surelinks.refusals import LIMIT_REACHED, MESSAGE_ON_WIRES, NOT_POSSIBLE, OUTSIDE_LIMITS, SITES_ALREADY
 from surelinks.refusals import packet_refusal, pair_refusal, sites_refusal
@@ -97,6 +98,13 @@ def damage(network, index, position, value):
     return [0, old_value]
 
 
+def exchange(network):
+    refusal = sites_refusal(network, [], True)
+    if refusal != 0:
+        return [refusal]
+    return [0] + perform_exchange(network)
+
+
 def answer_change(network, operation, numbers, row):
     if operation == 0:
         return create_sites(network, numbers[0])
@@ -116,4 +124,6 @@ def answer_change(network, operation, numbers, row):
         return lose(network, numbers[0])
     if operation == 8:
         return duplicate(network, numbers[0])
-    return damage(network, numbers[0], numbers[1], numbers[2])
+    if operation == 9:
+        return damage(network, numbers[0], numbers[1], numbers[2])
+    return exchange(network)

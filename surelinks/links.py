@@ -2,9 +2,15 @@
 
 from surelinks.calls import split_calls
 from surelinks.changes import answer_change
+from surelinks.looks import answer_look
 from surelinks.network import Network
+from surelinks.packet_calls import answer_packet_call
 
-CHANGE_COUNT = 10
+# From create_sites to damage, and exchange.
+CHANGES = (0, 1, 2, 3, 4, 5, 6, 7, 8, 9, 17)
+
+# write_packet and read_packet.
+PACKET_CALLS = (15, 16)
 
 
 def answers(calls):
@@ -18,7 +24,8 @@ def answers(calls):
 
 
 def answer_call(network, call):
-    if call.operation < CHANGE_COUNT:
+    if call.operation in CHANGES:
         return answer_change(network, call.operation, call.numbers, call.row)
-    # The calls 10 to 19 are read, so that those behind them are found, but not performed yet.
-    return []
+    if call.operation in PACKET_CALLS:
+        return answer_packet_call(call.operation, call.numbers, call.row)
+    return answer_look(network, call.operation, call.numbers)

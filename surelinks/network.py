@@ -23,3 +23,12 @@ class Network:
 
     def add_sites(self, count):
         self.sites = [Site(count) for place in range(count)]
+
+    # The pairs of different sites in lexicographic order.
+    def pairs(self):
+        found = []
+        for one in range(1, len(self.sites) + 1):
+            for other in range(1, len(self.sites) + 1):
+                if one != other:
+                    found.append((one, other))
+        return found

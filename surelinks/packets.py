@@ -3,7 +3,7 @@
 What the document calls bytes is called octets here, since the plain word is a name of Python's own.
 """
 
-from surelinks.limits import LONGEST_PAYLOAD, MOST_MESSAGES, is_site_number
+from surelinks.limits import LONGEST_PAYLOAD, is_message_count, is_message_number, is_site_number
 
 MESSAGE = 1
 ACKNOWLEDGEMENT = 2
@@ -65,5 +65,5 @@ def has_valid_fields(packet):
     if packet.sender == packet.receiver or len(packet.payload) > LONGEST_PAYLOAD:
         return False
     if packet.kind == MESSAGE:
-        return 1 <= packet.number <= MOST_MESSAGES
-    return packet.kind == ACKNOWLEDGEMENT and 0 <= packet.number <= MOST_MESSAGES
+        return is_message_number(packet.number)
+    return packet.kind == ACKNOWLEDGEMENT and is_message_count(packet.number)

@@ -25,6 +25,11 @@ class SiteCopy:
         twin.received = [list(messages) for messages in self.received]
         return twin
 
+    def equals(self, other):
+        if self.sent != other.sent or self.received != other.received:
+            return False
+        return self.acknowledged == other.acknowledged
+
 
 class Site:
     def __init__(self, site_count):

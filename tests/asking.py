@@ -45,6 +45,46 @@ def damage(index, position, value):
     return [9, index, position, value]
 
 
+def received(site, sender, first, count):
+    return [10, site, sender, first, count]
+
+
+def link_state(site, other, copy):
+    return [11, site, other, copy]
+
+
+def unsettled(sender, receiver):
+    return [12, sender, receiver]
+
+
+def list_packets():
+    return [13]
+
+
+def packet_bytes(index):
+    return [14, index]
+
+
+def write_packet(kind, sender, receiver, number, payload):
+    return [15, kind, sender, receiver, number, len(payload)] + payload
+
+
+def read_packet(octets):
+    return [16, len(octets)] + octets
+
+
+def exchange():
+    return [17]
+
+
+def is_settled():
+    return [18]
+
+
+def totals():
+    return [19]
+
+
 def joined(calls):
     """The calls of a request as the one list that is handed in."""
     return [number for call in calls for number in call]
@@ -72,3 +112,11 @@ def ask(calls):
 def ask_after(calls, asked):
     """The answers to the calls that are asked behind others."""
     return ask(calls + asked)[len(calls):]
+
+
+def with_checksum(body):
+    """Octets, and behind them their right checksum."""
+    checksum = 0
+    for octet in body:
+        checksum = (checksum * 257 + octet + 1) % 1000000007
+    return body + list(checksum.to_bytes(4, "big"))

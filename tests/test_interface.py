@@ -1,44 +1,34 @@
+import random
 import unittest
 
 from surelinks.links import answers
 from tests.asking import (
-    LARGE, ask, ask_after, at_risk, crash, create_sites, damage, deliver, duplicate, joined, lose, parted, post, sync,
-    transmit,
+    LARGE, ask, ask_after, at_risk, crash, create_sites, damage, deliver, duplicate, exchange, is_settled, joined,
+    link_state, list_packets, lose, packet_bytes, parted, post, read_packet, received, sync, totals, transmit,
+    unsettled, write_packet,
 )
 
 # The calls 10 to 19, with the most that their form allows in front of other calls.
 LATER_CALLS = [
-    [10, 2, 1, 1, 60],
-    [11, 1, 2, 0],
-    [12, 1, 2],
-    [13],
-    [14, 0],
-    [15, 1, 1, 2, 1, 2, 104, 105],
-    [15, 2, 2, 1, 0, 0],
-    [16, 11, 1, 1, 2, 1, 2, 104, 105, 2, 134, 66, 184],
-    [16, 0],
-    [16, 60] + [1] * 60,
-    [17],
-    [18],
-    [19],
+    received(2, 1, 1, 60), link_state(1, 2, 0), unsettled(1, 2), list_packets(), packet_bytes(0),
+    write_packet(1, 1, 2, 1, [104, 105]), write_packet(2, 2, 1, 0, []), write_packet(1, 1, 2, 1, [1] * 60),
+    read_packet([1, 1, 2, 1, 2, 104, 105, 2, 134, 66, 184]), read_packet([]), read_packet([1] * 60),
+    exchange(), is_settled(), totals(),
 ]
 
 MIXED_REQUEST = [
+    write_packet(1, 4, 3, 60, [1] * 16), read_packet([2, 2, 1, 0, 3, 12, 17, 9]),
     create_sites(3), post(1, 2, [7, 8]), post(1, 3, []), sync(1), transmit(1, 2), transmit(1, 3), duplicate(0),
-    damage(0, 5, 9), deliver(0), deliver(4), at_risk(2), crash(2), lose(0), post(9, 9, [1] * 60), deliver(-LARGE),
+    damage(0, 5, 9), list_packets(), packet_bytes(0), packet_bytes(4), deliver(0), deliver(3), received(2, 1, 1, 60),
+    at_risk(2), crash(2), lose(0), post(9, 9, [1] * 60), deliver(-LARGE), totals(), exchange(), unsettled(1, 2),
+    post(3, 1, [255] * 16), link_state(1, 3, 0), link_state(1, 3, 1), received(3, 1, 1, 1), exchange(), is_settled(),
+    exchange(), is_settled(), totals(), received(1, 3, 1, 60), packet_bytes(0), list_packets(), read_packet([300]),
 ]
-
-
-def pairs_of_ten_calls(rows):
-    """The answers that are told and the ones that are given, of the calls 0 to 9 alone."""
-    given = ask([call for call, told in rows])
-    return [(told, answer) for (call, told), answer in zip(rows, given) if call[0] < 10]
 
 
 class Examples(unittest.TestCase):
     def check(self, rows):
-        for told, answer in pairs_of_ten_calls(rows):
-            self.assertEqual(answer, told)
+        self.assertEqual(ask([call for call, told in rows]), [told for call, told in rows])
 
     def test_first_request(self):
         self.check([
@@ -46,25 +36,30 @@ class Examples(unittest.TestCase):
             (post(1, 2, [104, 105]), [0, 1]),
             (post(1, 2, [33]), [0, 2]),
             (transmit(1, 2), [0, 0, 0]),
-            ([13], None),
+            (list_packets(), [0, 1, 2, 1, 2, 0]),
             (lose(0), [0, 0]),
             (sync(1), [0, 2, 0, 0]),
             (transmit(1, 2), [0, 2, 0]),
             (deliver(1), [0, 3, 1, 2, 2]),
             (deliver(0), [0, 1, 1, 2, 1]),
-            ([10, 2, 1, 1, 60], None),
+            (received(2, 1, 1, 60), [0, 1, 2, 104, 105]),
             (at_risk(2), [0, 0, 1, 0]),
             (transmit(2, 1), [0, 0, 0]),
             (crash(2), [0, 0, 1, 0]),
-            ([12, 1, 2], None),
+            (unsettled(1, 2), [0, 2, 1]),
+            (exchange(), [0, 2, 0]),
+            (is_settled(), [0, 0]),
+            (exchange(), [0, 0, 1]),
+            (is_settled(), [0, 1]),
+            (totals(), [0, 2, 0, 0, 2, 2]),
         ])
 
     def test_second_request(self):
         self.check([
-            ([15, 1, 1, 2, 1, 2, 104, 105], None),
-            ([16, 11, 1, 1, 2, 1, 2, 104, 105, 2, 134, 66, 184], None),
-            ([16, 11, 1, 1, 2, 1, 2, 105, 105, 2, 134, 66, 184], None),
-            ([15, 2, 2, 1, 0, 0], None),
+            (write_packet(1, 1, 2, 1, [104, 105]), [0, 1, 1, 2, 1, 2, 104, 105, 2, 134, 66, 184]),
+            (read_packet([1, 1, 2, 1, 2, 104, 105, 2, 134, 66, 184]), [0, 1, 1, 1, 2, 1, 104, 105]),
+            (read_packet([1, 1, 2, 1, 2, 105, 105, 2, 134, 66, 184]), [0, 0]),
+            (write_packet(2, 2, 1, 0, []), [0, 2, 2, 1, 0, 3, 12, 17, 9]),
             (post(1, 2, [1]), [-4]),
             (create_sites(3), [0, 3]),
             (post(1, 4, [1]), [-2]),
@@ -102,6 +97,31 @@ class Form(unittest.TestCase):
     def test_lists_that_look_like_calls(self):
         told = ask([create_sites(2), post(1, 2, [0, 3, 2, 1]), post(1, 2, [0] * 16), sync(1)])
         self.assertEqual(told, [[0, 2], [0, 1], [0, 2], [0, 2, 0, 0]])
+
+
+class AllTwentyCalls(unittest.TestCase):
+    """Requests of 200 calls in which all twenty stand."""
+
+    def requests(self):
+        for seed in range(20):
+            source = random.Random(seed)
+            calls = MIXED_REQUEST * 5
+            source.shuffle(calls)
+            yield [create_sites(2 + seed % 3)] + calls + [sync(1)] * (199 - len(calls))
+
+    def test_every_answer_is_given(self):
+        for calls in self.requests():
+            self.assertEqual({call[0] for call in calls}, set(range(20)))
+            for call, told in zip(calls, ask(calls)):
+                self.assertTrue(told[0] == 0 and len(told) > 1 or -9 <= told[0] <= -1 and len(told) == 1, call)
+
+    def test_what_is_handed_in_stays_and_a_second_time_answers_as_the_first(self):
+        for calls in self.requests():
+            handed_in = joined(calls)
+            before = list(handed_in)
+            first = answers(handed_in)
+            self.assertEqual(handed_in, before)
+            self.assertEqual(answers(handed_in), first)
 
 
 class NothingKept(unittest.TestCase):

@@ -154,6 +154,74 @@ class Forms(unittest.TestCase):
                     called.add(form.func.attr)
         self.assertEqual(called - own - ALLOWED_METHODS, set())
 
+    def test_names_of_methods_are_free(self):
+        taken = set(dir(str) + dir(int) + dir(list) + dir(dict) + dir(set) + dir(bytes)) - {"__init__"}
+        for path in files():
+            for form in forms_of(path):
+                if isinstance(form, ast.ClassDef):
+                    names = [method.name for method in form.body if isinstance(method, ast.FunctionDef)]
+                    self.assertEqual(len(names), len(form.body), form.name)
+                    self.assertEqual(len(set(names)), len(names), form.name)
+                    self.assertEqual(set(names) & taken, set(), form.name)
+
+    def test_names_of_a_file_are_bound_once(self):
+        for path in files():
+            names = []
+            for form in ast.parse(path.read_text(encoding="utf-8")).body:
+                if isinstance(form, (ast.FunctionDef, ast.ClassDef)):
+                    names.append(form.name)
+                if isinstance(form, ast.ImportFrom):
+                    names.extend([alias.name for alias in form.names])
+                if isinstance(form, ast.Assign):
+                    names.extend([target.id for target in form.targets])
+                    self.assertNotIsInstance(form.value, (ast.List, ast.Dict, ast.ListComp), path.name)
+            self.assertEqual(len(set(names)), len(names), path.name)
+
+    def test_classes_stand_at_the_top_and_functions_there_or_in_them(self):
+        for path in files():
+            tree = ast.parse(path.read_text(encoding="utf-8"))
+            tops = tree.body + [form for top in tree.body if isinstance(top, ast.ClassDef) for form in top.body]
+            for form in ast.walk(tree):
+                if isinstance(form, (ast.FunctionDef, ast.ClassDef)):
+                    self.assertIn(form, tops, form.name)
+
+    def test_no_annotations(self):
+        for path in files():
+            for form in forms_of(path):
+                if isinstance(form, ast.arg):
+                    self.assertIsNone(form.annotation, path.name)
+                if isinstance(form, ast.FunctionDef):
+                    self.assertIsNone(form.returns, form.name)
+
+    def test_is_stands_beside_none_alone(self):
+        for path in files():
+            for form in forms_of(path):
+                if isinstance(form, ast.Compare) and isinstance(form.ops[0], (ast.Is, ast.IsNot)):
+                    self.assertEqual(ast.unparse(form.comparators[0]), "None", path.name)
+
+    def test_ranges_are_walked_at_once(self):
+        for path in files():
+            walked = [form.iter for form in forms_of(path) if isinstance(form, (ast.For, ast.comprehension))]
+            walked = [ast.unparse(form) for form in walked]
+            for form in forms_of(path):
+                if isinstance(form, ast.Call) and ast.unparse(form.func) in ("range", "zip", "enumerate", "reversed"):
+                    self.assertIn(ast.unparse(form), walked, path.name)
+
+    def test_no_powers_and_no_sign_for_parts_in_a_text(self):
+        for path in files():
+            for form in forms_of(path):
+                self.assertNotIsInstance(form, ast.Pow, path.name)
+                if isinstance(form, ast.Constant) and isinstance(form.value, str):
+                    self.assertNotIn("%", form.value, path.name)
+
+    def test_the_interface_stands_in_its_own_file_alone(self):
+        found = []
+        for path in files():
+            for form in ast.parse(path.read_text(encoding="utf-8")).body:
+                if isinstance(form, ast.FunctionDef) and form.name == "answers":
+                    found.append((path.name, ast.unparse(form.args)))
+        self.assertEqual(found, [("links.py", "calls")])
+
     def test_no_name_is_a_method_and_a_value(self):
         methods = set()
         values = set()

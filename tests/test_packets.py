@@ -4,6 +4,7 @@ import random
 import unittest
 
 from surelinks.packets import Packet, checksum_of, octets_of, packet_of
+from tests.asking import with_checksum
 
 SAMPLES = [
     (1, 1, 2, 1, []), (1, 1, 2, 1, [104, 105]), (1, 4, 3, 60, [0] * 16), (1, 2, 4, 31, [255] * 16), (1, 3, 1, 2, [0]),
@@ -15,13 +16,6 @@ SAMPLES = [
 
 def fields_of(packet):
     return packet.kind, packet.sender, packet.receiver, packet.number, packet.payload
-
-
-def with_checksum(body):
-    checksum = 0
-    for octet in body:
-        checksum = (checksum * 257 + octet + 1) % 1000000007
-    return body + list(checksum.to_bytes(4, "big"))
 
 
 def is_readable(octets):

@@ -1,9 +1,10 @@
-"""The errors of the calls 0 to 9, in the order in which they are checked."""
+"""The errors of all calls, in the order in which they are checked, and that a refused call changes nothing."""
 
 import unittest
 
 from tests.asking import (
-    LARGE, ask, ask_after, at_risk, crash, create_sites, damage, deliver, duplicate, lose, post, sync, transmit,
+    LARGE, ask, ask_after, at_risk, crash, create_sites, damage, deliver, duplicate, exchange, is_settled, link_state,
+    list_packets, lose, packet_bytes, post, read_packet, received, sync, totals, transmit, unsettled, write_packet,
 )
 
 TWO = [create_sites(2)]
@@ -16,6 +17,19 @@ REFUSED_WITHOUT_SITES = [
     sync(1), sync(0), sync(LARGE), crash(2), crash(5), crash(-LARGE), at_risk(4), at_risk(-1), at_risk(LARGE),
     transmit(1, 2), transmit(0, 0), transmit(LARGE, 1), deliver(0), deliver(-1), deliver(LARGE), lose(0), lose(-LARGE),
     duplicate(0), duplicate(LARGE), damage(0, 0, 0), damage(0, 0, 256), damage(-LARGE, LARGE, -LARGE),
+    received(1, 2, 1, 1), received(3, 3, 1, 1), received(0, 5, 0, 61), received(LARGE, -LARGE, LARGE, LARGE),
+    link_state(1, 2, 0), link_state(2, 2, 1), link_state(0, 5, 2), link_state(LARGE, LARGE, -LARGE),
+    unsettled(1, 2), unsettled(4, 4), unsettled(0, 5), unsettled(-LARGE, LARGE), list_packets(), packet_bytes(0),
+    packet_bytes(-1), packet_bytes(LARGE), exchange(), is_settled(), totals(),
+]
+
+# write_packet and read_packet don't ask for sites: told alike ahead of them and behind.
+TOLD_WITHOUT_SITES = [
+    (write_packet(2, 2, 1, 0, []), [0, 2, 2, 1, 0, 3, 12, 17, 9]), (write_packet(0, 1, 1, 0, []), [-1]),
+    (write_packet(1, 1, 1, 0, [256]), [-1]), (write_packet(LARGE, LARGE, LARGE, LARGE, [LARGE] * 60), [-1]),
+    (write_packet(1, 4, 4, 0, []), [-6]), (write_packet(2, 3, 3, 0, [1]), [-6]), (write_packet(1, 3, 4, 0, []), [-9]),
+    (write_packet(2, 3, 4, 0, [1]), [-9]), (read_packet([]), [0, 0]), (read_packet([LARGE]), [-1]),
+    (read_packet([2, 2, 1, 0, 3, 12, 17, 9]), [0, 1, 2, 2, 1, 0]), (read_packet([0] * 41), [-1]),
 ]
 
 # Behind ONE_SENT, where each of these is refused for more than one reason.
@@ -26,6 +40,11 @@ REFUSED_FOR_THE_FIRST_REASON = [
     (transmit(5, 5), -1), (transmit(0, 4), -1), (transmit(4, 0), -1), (transmit(3, 3), -2), (transmit(4, 4), -2),
     (damage(2, 0, 256), -1), (damage(-1, -1, -1), -1), (damage(0, 99, 256), -1), (damage(LARGE, LARGE, LARGE), -1),
     (damage(2, 99, 0), -3), (damage(-1, 0, 1), -3), (damage(-LARGE, -LARGE, 0), -3),
+    (received(3, 3, 0, 1), -1), (received(1, 1, 1, 61), -1), (received(0, 4, 1, 1), -1), (received(4, 4, 1, 0), -2),
+    (link_state(3, 3, 2), -1), (link_state(1, 1, -1), -1), (link_state(4, 0, 0), -1), (link_state(4, 4, 1), -2),
+    (unsettled(5, 5), -1), (unsettled(4, 0), -1), (unsettled(3, 3), -2), (write_packet(1, 1, 1, 0, [256]), -1),
+    (write_packet(3, 4, 4, 0, []), -1), (write_packet(1, 4, 4, 0, []), -6), (write_packet(2, 3, 3, 0, [1]), -6),
+    (read_packet([256] * 41), -1),
 ]
 
 REFUSED_AFTER_ONE_SENT = REFUSED_FOR_THE_FIRST_REASON + [
@@ -34,10 +53,17 @@ REFUSED_AFTER_ONE_SENT = REFUSED_FOR_THE_FIRST_REASON + [
     (transmit(3, 1), -2), (transmit(1, 1), -6), (transmit(1, 2), -8), (deliver(2), -3), (deliver(-1), -3),
     (lose(2), -3), (lose(-2), -3), (duplicate(2), -3), (duplicate(-1), -3), (damage(2, 0, 0), -3),
     (damage(0, 11, 0), -9), (damage(0, -1, 0), -9), (damage(0, 0, 1), -9), (damage(0, 0, -1), -1),
+    (received(1, 2, 61, 0), -1), (received(1, 3, 1, 1), -2), (received(2, 2, 1, 1), -6), (link_state(1, 2, 2), -1),
+    (link_state(3, 2, 1), -2), (link_state(1, 1, 0), -6), (unsettled(1, 0), -1), (unsettled(1, 4), -2),
+    (unsettled(2, 2), -6), (packet_bytes(2), -3), (packet_bytes(-1), -3), (write_packet(1, 1, 2, 61, []), -1),
+    (write_packet(1, 2, 2, 1, []), -6), (write_packet(1, 1, 2, 0, []), -9), (write_packet(2, 1, 2, 0, [1]), -9),
+    (read_packet([-1]), -1), (read_packet([1] * 41), -1),
 ]
 
-# These tell of the posted, received and acknowledged, of each packet, and of the number of packets.
+# These tell of both copies of the sites, of each packet, and of the numbers of all kinds.
 ALL_THAT_IS_TOLD = [
+    link_state(1, 2, 0), link_state(1, 2, 1), link_state(2, 1, 0), link_state(2, 1, 1), received(2, 1, 1, 60),
+    received(1, 2, 1, 60), unsettled(1, 2), list_packets(), packet_bytes(0), packet_bytes(1), is_settled(), totals(),
     at_risk(1), at_risk(2), duplicate(0), duplicate(1), lose(3), lose(2), deliver(1), deliver(0), deliver(0),
     at_risk(1), at_risk(2), post(1, 2, []), post(2, 1, []), crash(1), crash(2), transmit(1, 2), damage(0, 5, 0),
 ]
@@ -48,6 +74,11 @@ class Order(unittest.TestCase):
         for call in REFUSED_WITHOUT_SITES:
             with self.subTest(call=call):
                 self.assertEqual(ask([call, create_sites(2)]), [[-4], [0, 2]])
+
+    def test_what_asks_for_no_sites(self):
+        for call, told in TOLD_WITHOUT_SITES:
+            with self.subTest(call=call):
+                self.assertEqual(ask([call, create_sites(2), call]), [told, [0, 2], told])
 
     def test_there_are_no_sites_after_a_refused_create(self):
         self.assertEqual(ask([create_sites(1), sync(9)]), [[-1], [-4]])

@@ -1,5 +1,6 @@
 import unittest
 
+from surelinks.sites import SiteCopy
 from tests.asking import (
     LARGE, ask, ask_after, at_risk, crash, create_sites, damage, deliver, duplicate, lose, post, sync, transmit,
 )
@@ -91,6 +92,30 @@ class Post(unittest.TestCase):
         calls = TWO + [post(1, 2, [66]), crash(1), post(1, 2, [77]), sync(1)]
         asked = [transmit(1, 2), damage(0, 5, 0), lose(0), lose(0)]
         self.assertEqual(ask_after(calls, asked), [[0, 1, 0], [0, 77], [0, 1], [0, 0]])
+
+
+class EqualCopies(unittest.TestCase):
+    """What is_settled asks, for each part of a copy alone."""
+
+    def filled(self):
+        copy = SiteCopy(2)
+        copy.sent[2] = [[1], []]
+        copy.acknowledged[2] = 1
+        copy.received[2] = [[5, 6]]
+        return copy
+
+    def test_equal(self):
+        self.assertTrue(SiteCopy(2).equals(SiteCopy(2)))
+        self.assertTrue(self.filled().equals(self.filled()))
+        self.assertTrue(self.filled().equals(self.filled().copied()))
+
+    def test_different(self):
+        self.assertFalse(self.filled().equals(SiteCopy(2)))
+        for part, value in (("sent", [[1]]), ("acknowledged", 2), ("received", [[5, 7]])):
+            other = self.filled()
+            getattr(other, part)[2] = value
+            self.assertFalse(self.filled().equals(other), part)
+            self.assertFalse(other.equals(self.filled()), part)
 
 
 class SyncCrashAtRisk(unittest.TestCase):

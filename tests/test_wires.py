@@ -2,6 +2,7 @@ import unittest
 
 from tests.asking import (
     LARGE, ask, ask_after, at_risk, crash, create_sites, damage, deliver, duplicate, lose, post, sync, transmit,
+    with_checksum,
 )
 
 TWO = [create_sites(2)]
@@ -247,11 +248,7 @@ class Damage(unittest.TestCase):
 
     def test_the_bytes_of_an_empty_and_of_a_full_message(self):
         for payload in ([], [255] * 16, [0] * 16, list(range(240, 256))):
-            body = [1, 2, 1, 1, len(payload)] + payload
-            checksum = 0
-            for octet in body:
-                checksum = (checksum * 257 + octet + 1) % 1000000007
-            octets = body + list(checksum.to_bytes(4, "big"))
+            octets = with_checksum([1, 2, 1, 1, len(payload)] + payload)
             self.check_octets(TWO + [post(2, 1, payload), sync(2), transmit(2, 1)], octets)
 
     def test_positions(self):
